@@ -1,0 +1,74 @@
+// Package layer: the layers and the backend within them, and what comes back out of them.
+package layer
+
+import (
+	"parapet/agenda"
+	"parapet/api"
+	"parapet/fault"
+)
+
+// Layer is entered by a task, and a value, an error or a panic comes back out of it.
+type Layer interface {
+	Enter(t *agenda.Task) (int, error)
+}
+
+// Journal has the events in the order in which they happened.
+type Journal struct {
+	Events []api.Event
+}
+
+// common is what all layers have.
+type common struct {
+	within  Layer
+	number  int
+	journal *Journal
+}
+
+func (c *common) tell(t *agenda.Task, what, n int) {
+	c.journal.Events = append(c.journal.Events, api.Event{At: t.Now(), Client: t.Client(), Layer: c.number, What: what, N: n})
+}
+
+// fail makes an error of this layer.
+func (c *common) fail(kind fault.Kind, n int) (int, error) {
+	return 0, fault.New(kind, c.number, n)
+}
+
+// Stack lays the layers around the backend and gives the outermost.
+func Stack(layers []api.Layer, clients []api.Client, journal *Journal) Layer {
+	outermost := newBackend(clients, journal)
+	for number := len(layers) - 1; number >= 0; number-- {
+		outermost = newLayer(layers[number], common{outermost, number, journal})
+	}
+	return outermost
+}
+
+func newLayer(l api.Layer, c common) Layer {
+	switch l.Kind {
+	case api.Retry:
+		return &retry{common: c, attempts: l.A, first: l.B, factor: l.C, longest: l.D}
+	case api.Guard:
+		return &guard{c}
+	}
+	return &open{c}
+}
+
+// open stands where a kind of layer is not built yet.
+type open struct {
+	common
+}
+
+func (o *open) Enter(t *agenda.Task) (int, error) { return o.within.Enter(t) }
+
+// Call lets a task go through the layers, and tells as what it came back.
+func Call(outermost Layer, t *agenda.Task) (o api.Outcome) {
+	defer func() {
+		if blown := recover(); blown != nil {
+			o = api.Outcome{At: t.Now(), Kind: api.ByPanic, N: numberOf(blown)}
+		}
+	}()
+	n, err := outermost.Enter(t)
+	if err != nil {
+		return api.Outcome{At: t.Now(), Kind: api.ByError, Chain: fault.Chain(err)}
+	}
+	return api.Outcome{At: t.Now(), Kind: api.ByValue, N: n}
+}
