@@ -33,6 +33,12 @@ func (c *common) fail(kind fault.Kind, n int) (int, error) {
 	return 0, fault.New(kind, c.number, n)
 }
 
+// refuse keeps a task from going on inwards.
+func (c *common) refuse(t *agenda.Task) (int, error) {
+	c.tell(t, api.EvRefused, 0)
+	return c.fail(fault.Refused, 0)
+}
+
 // Stack lays the layers around the backend and gives the outermost.
 func Stack(layers []api.Layer, clients []api.Client, journal *Journal) Layer {
 	outermost := newBackend(clients, journal)
@@ -48,16 +54,20 @@ func newLayer(l api.Layer, c common) Layer {
 		return &retry{common: c, attempts: l.A, first: l.B, factor: l.C, longest: l.D}
 	case api.Guard:
 		return &guard{c}
+	case api.Rate:
+		return &rate{common: c, interval: l.A, burst: l.B}
+	case api.Breaker:
+		return &breaker{common: c, window: l.A, least: l.B, percent: l.C, stays: l.D, probes: l.E}
 	}
-	return &open{c}
+	return &unbuilt{c}
 }
 
-// open stands where a kind of layer is not built yet.
-type open struct {
+// unbuilt stands where a kind of layer is not built yet.
+type unbuilt struct {
 	common
 }
 
-func (o *open) Enter(t *agenda.Task) (int, error) { return o.within.Enter(t) }
+func (u *unbuilt) Enter(t *agenda.Task) (int, error) { return u.within.Enter(t) }
 
 // Call lets a task go through the layers, and tells as what it came back.
 func Call(outermost Layer, t *agenda.Task) (o api.Outcome) {

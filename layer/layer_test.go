@@ -3,6 +3,7 @@ package layer
 import (
 	"errors"
 	"fmt"
+	"slices"
 	"strings"
 	"testing"
 
@@ -20,7 +21,7 @@ type scene struct {
 }
 
 func newScene(layers []api.Layer, turns ...api.Turn) *scene {
-	s := &scene{tasks: agenda.New(), outcomes: make([]api.Outcome, 3)}
+	s := &scene{tasks: agenda.New(), outcomes: make([]api.Outcome, 9)}
 	s.outermost = Stack(layers, []api.Client{{Turns: turns}, {Turns: turns}}, &s.journal)
 	return s
 }
@@ -51,6 +52,10 @@ func (s *scene) expect(t *testing.T, outcome, events string) {
 
 func retryLayer(attempts, first, factor, longest int) api.Layer {
 	return api.Layer{Kind: api.Retry, A: attempts, B: first, C: factor, D: longest}
+}
+
+func breakerLayer(window, least, percent, stays, probes int) api.Layer {
+	return api.Layer{Kind: api.Breaker, A: window, B: least, C: percent, D: stays, E: probes}
 }
 
 func TestRetryIsCancelledInItsPause(t *testing.T) {
@@ -94,14 +99,40 @@ func TestRetryDoesNotTryAgainAtCancelled(t *testing.T) {
 	s.expect(t, "{3 2 0 [{5 1 0}]}", "0.-1.1.0 0.-1.2.0 0.1.3.5 3.1.16.0")
 }
 
-func TestRetryLooksAtTheWholeChain(t *testing.T) {
-	for kind, want := range map[fault.Kind]bool{fault.Failed: false, fault.Fatal: true, fault.Refused: false, fault.Late: false, fault.Cancelled: true, fault.Caught: false} {
+// expectAsked: of which last links, behind a GaveUp too, a layer gets the answer yes when it asks.
+func expectAsked(t *testing.T, asks func(error) bool, yes ...fault.Kind) {
+	t.Helper()
+	for _, kind := range []fault.Kind{fault.Failed, fault.Fatal, fault.Refused, fault.Late, fault.Cancelled, fault.Caught} {
 		for _, err := range []error{fault.New(kind, 2, 1), fault.Wrap(1, fault.New(kind, 2, 1))} {
-			if hopeless(err) != want {
-				t.Errorf("P7: %v: goes on outwards: %v", err, !want)
+			if want := slices.Contains(yes, kind); asks(err) != want {
+				t.Errorf("%v: %v, want %v", err, !want, want)
 			}
 		}
 	}
+}
+
+func TestLayersLookAtTheWholeChain(t *testing.T) {
+	expectAsked(t, hopeless, fault.Fatal, fault.Cancelled)
+	expectAsked(t, saysNothing, fault.Refused, fault.Cancelled)
+	if saysNothing(nil) {
+		t.Error("P10: what is no error counts")
+	}
+}
+
+func TestCancelledDoesNotCountInABreaker(t *testing.T) {
+	s := newScene([]api.Layer{breakerLayer(1, 1, 100, 9, 1), retryLayer(3, 10, 1, 10)}, api.Turn{Kind: api.TurnError, N: 1}, api.Turn{Kind: api.TurnFinal, N: 2})
+	s.cancel(s.call(0, 0), 3)
+	s.call(0, 4)
+	s.expect(t, "{3 2 0 [{5 1 0}]}", "0.0.8.0 0.-1.1.0 0.-1.2.0 0.1.3.10 3.1.16.0 4.0.8.0 4.-1.1.1 4.-1.2.1 4.0.9.0")
+}
+
+func TestCancelledIsAProbeLess(t *testing.T) {
+	s := newScene([]api.Layer{breakerLayer(1, 1, 100, 1, 1), retryLayer(3, 10, 1, 10)}, api.Turn{Kind: api.TurnFinal, N: 1}, api.Turn{Kind: api.TurnError, N: 2})
+	s.call(0, 0)
+	s.cancel(s.call(0, 1), 3)
+	s.call(1, 2)
+	s.call(1, 4)
+	s.expect(t, "{0 2 0 [{2 -1 1}]}", "0.0.8.0 0.-1.1.0 0.-1.2.0 0.0.9.0 1.0.10.0 1.0.8.0 1.-1.1.1 1.-1.2.1 1.1.3.10 2.0.7.0 3.1.16.0 4.0.8.0 4.-1.1.0 4.-1.2.0 4.0.9.0")
 }
 
 func TestBackendIsNotCancelled(t *testing.T) {

@@ -32,12 +32,15 @@ func blows(n, takes int) api.Turn { return api.Turn{Kind: api.TurnPanic, N: n, T
 
 // eventText: time, client, layer, what and number, as in "3 c1 l0 Paused 5".
 func eventText(e api.Event) string {
-	names := []string{"none", "Began", "Ended", "Paused", "GaveUp", "Caught"}
-	what := fmt.Sprint("event ", e.What)
-	if e.What >= 0 && e.What < len(names) {
-		what = names[e.What]
+	return fmt.Sprintf("%d c%d l%d %s %d", e.At, e.Client, e.Layer, eventName(e.What), e.N)
+}
+
+func eventName(what int) string {
+	names := []string{"none", "Began", "Ended", "Paused", "GaveUp", "Caught", "Admitted", "Refused", "Passed", "Opened", "Halved", "Closed"}
+	if what < 0 || what >= len(names) {
+		return fmt.Sprint("event ", what)
 	}
-	return fmt.Sprintf("%d c%d l%d %s %d", e.At, e.Client, e.Layer, what, e.N)
+	return names[what]
 }
 
 func eventTexts(events []api.Event) string {
@@ -69,4 +72,54 @@ func expectRun(t *testing.T, layers []api.Layer, clients []api.Client, outcomes 
 	if got, want := eventTexts(r.Events), strings.Join(events, "\n"); got != want {
 		t.Errorf("events:\n%s\nwant:\n%s", got, want)
 	}
+}
+
+func eventsOf(events []api.Event, layer int) []api.Event {
+	var own []api.Event
+	for _, e := range events {
+		if e.Layer == layer {
+			own = append(own, e)
+		}
+	}
+	return own
+}
+
+func timesOf(events []api.Event, what int) []int {
+	var times []int
+	for _, e := range events {
+		if e.What == what {
+			times = append(times, e.At)
+		}
+	}
+	return times
+}
+
+// ownEvents of a layer: time, client and what, as in "3 c1 Passed, 4 c1 Opened".
+func ownEvents(events []api.Event, layer int) string {
+	var own []string
+	for _, e := range eventsOf(events, layer) {
+		own = append(own, fmt.Sprintf("%d c%d %s", e.At, e.Client, eventName(e.What)))
+	}
+	return strings.Join(own, ", ")
+}
+
+// expectOwn: the events of one layer.
+func expectOwn(t *testing.T, layers []api.Layer, clients []api.Client, layer int, want string) {
+	t.Helper()
+	r, e, at := Run(layers, clients)
+	if e != api.OK || at != 0 {
+		t.Errorf("error %d at %d", e, at)
+	}
+	if got := ownEvents(r.Events, layer); got != want {
+		t.Errorf("%v, %v: layer %d:\n     %s\nwant %s", layers, clients, layer, got, want)
+	}
+}
+
+// oneEach: a client for each turn, with the starts 0, 1, 2, ..
+func oneEach(turns ...api.Turn) []api.Client {
+	var clients []api.Client
+	for start, turn := range turns {
+		clients = append(clients, clientAt(start, turn))
+	}
+	return clients
 }

@@ -65,9 +65,9 @@ func TestEveryCallEndsAndNonePanics(t *testing.T) {
 	}
 }
 
-// busyInputs: all kinds of turns, both kinds of layers, chains of several links, many entries of one time.
+// busyInputs: all kinds of turns, each kind of layer that is built, chains of several links, many entries of one time.
 func busyInputs() ([]api.Layer, []api.Client) {
-	layers := stack(layerOf(api.Retry, 3, 2, 2, 3), layerOf(api.Guard), layerOf(api.Retry, 2, 1, 1, 1))
+	layers := stack(layerOf(api.Retry, 3, 2, 2, 3), layerOf(api.Guard), layerOf(api.Breaker, 5, 3, 60, 2, 2), layerOf(api.Retry, 2, 1, 1, 1), layerOf(api.Rate, 1, 7))
 	turns := []api.Turn{fails(1, 1), fails(2, 0), blows(3, 1), fails(4, 2), fails(5, 1), final(6, 0)}
 	var clients []api.Client
 	for i := range api.MaxClients {
@@ -208,4 +208,56 @@ func TestAllThatWasStartedHasEnded(t *testing.T) {
 		time.Sleep(time.Millisecond)
 	}
 	t.Errorf("P2: goroutines: %d before, %d behind", before, runtime.NumGoroutine())
+}
+
+// later moves all starts of clients.
+func later(clients []api.Client, by int) []api.Client {
+	moved := append([]api.Client{}, clients...)
+	for i := range moved {
+		moved[i].Start += by
+	}
+	return moved
+}
+
+// earlier moves all times of a report back.
+func earlier(r api.Report, by int) api.Report {
+	r = deepCopy(r)
+	for i := range r.Outcomes {
+		r.Outcomes[i].At -= by
+	}
+	for i := range r.Events {
+		r.Events[i].At -= by
+	}
+	return r
+}
+
+func TestLaterStartsMoveEverything(t *testing.T) {
+	r := rand.New(rand.NewSource(5))
+	for range 1000 {
+		layers, clients, by := someLayers(r), someClients(r), oneOf(r, 1, 2, 7, 100, 980)
+		want, _, _ := Run(layers, clients)
+		got, e, at := Run(layers, later(clients, by))
+		if e != api.OK || at != 0 || !sameReport(earlier(got, by), want) {
+			t.Fatalf("P13: %v, %v: later by %d: error %d at %d\n%s\nwant all later than\n%s", layers, clients, by, e, at, eventTexts(got.Events), eventTexts(want.Events))
+		}
+	}
+}
+
+func TestNoPanicComesOutThroughAGuard(t *testing.T) {
+	r := rand.New(rand.NewSource(6))
+	caught := 0
+	for range 1000 {
+		layers, clients := someLayers(r), someClients(r)
+		layers = append(stack(layerOf(api.Guard)), layers[:min(len(layers), api.MaxLayers-1)]...)
+		report, _, _ := Run(layers, clients)
+		for i, o := range report.Outcomes {
+			if o.Kind == api.ByPanic {
+				t.Fatalf("P13: %v, %v: client %d: %v", layers, clients, i, o)
+			}
+		}
+		caught += len(timesOf(eventsOf(report.Events, 0), api.EvCaught))
+	}
+	if caught < 100 {
+		t.Errorf("only %d panics were caught", caught)
+	}
 }
