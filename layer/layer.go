@@ -39,6 +39,12 @@ func (c *common) refuse(t *agenda.Task) (int, error) {
 	return c.fail(fault.Refused, 0)
 }
 
+// drop gives a task up that was cancelled.
+func (c *common) drop(t *agenda.Task) (int, error) {
+	c.tell(t, api.EvDropped, 0)
+	return c.fail(fault.Cancelled, 0)
+}
+
 // Stack lays the layers around the backend and gives the outermost.
 func Stack(layers []api.Layer, clients []api.Client, journal *Journal) Layer {
 	outermost := newBackend(clients, journal)
@@ -58,6 +64,8 @@ func newLayer(l api.Layer, c common) Layer {
 		return &rate{common: c, interval: l.A, burst: l.B}
 	case api.Breaker:
 		return &breaker{common: c, window: l.A, least: l.B, percent: l.C, stays: l.D, probes: l.E}
+	case api.Room:
+		return &room{common: c, places: l.A, longest: l.B}
 	}
 	return &unbuilt{c}
 }

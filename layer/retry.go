@@ -27,8 +27,7 @@ func (r *retry) Enter(t *agenda.Task) (int, error) {
 			return 0, fault.Wrap(r.number, err)
 		}
 		if !r.rest(t, pause) {
-			r.tell(t, api.EvDropped, 0)
-			return r.fail(fault.Cancelled, 0)
+			return r.drop(t)
 		}
 		pause = min(pause*r.factor, r.longest)
 	}

@@ -36,7 +36,7 @@ func eventText(e api.Event) string {
 }
 
 func eventName(what int) string {
-	names := []string{"none", "Began", "Ended", "Paused", "GaveUp", "Caught", "Admitted", "Refused", "Passed", "Opened", "Halved", "Closed"}
+	names := []string{"none", "Began", "Ended", "Paused", "GaveUp", "Caught", "Admitted", "Refused", "Passed", "Opened", "Halved", "Closed", "Waited", "Took", "Left", "Cut", "Dropped"}
 	if what < 0 || what >= len(names) {
 		return fmt.Sprint("event ", what)
 	}

@@ -3,6 +3,7 @@ package parapet
 import (
 	"math/rand"
 	"reflect"
+	"slices"
 	"testing"
 
 	"parapet/api"
@@ -28,6 +29,13 @@ type due struct {
 type modelLife struct {
 	admitted []int // of a Rate: when it let somebody in
 	periods  []modelPeriod
+	inside   int            // of a Room: the places that are taken
+	line     []*modelWaiter // of a Room
+}
+
+// modelWaiter is one of the line of a Room.
+type modelWaiter struct {
+	takes func()
 }
 
 // modelPeriod of a Breaker, the last one is the present one. What it counted is told as an outcome's kind.
@@ -108,6 +116,8 @@ func (m *model) enter(layer, client int, back comesBack) {
 		m.rate(layer, client, back)
 	case api.Breaker:
 		m.breaker(layer, client, back)
+	case api.Room:
+		m.room(layer, client, back)
 	}
 }
 
@@ -236,6 +246,43 @@ func (m *model) breakerCounts(layer, client int, p *modelPeriod, o api.Outcome) 
 	}
 }
 
+func (m *model) room(layer, client int, back comesBack) {
+	l, life := m.layers[layer], &m.lives[layer]
+	if life.inside < l.A {
+		life.inside++
+		m.inRoom(layer, client, back)
+		return
+	}
+	if l.B == 0 {
+		m.refuse(layer, client, back)
+		return
+	}
+	m.tell(client, layer, api.EvWaited, 0)
+	w := &modelWaiter{func() { m.inRoom(layer, client, back) }}
+	life.line = append(life.line, w)
+	m.at(m.now+l.B, func() {
+		if i := slices.Index(life.line, w); i >= 0 {
+			life.line = slices.Delete(life.line, i, i+1)
+			m.refuse(layer, client, back)
+		}
+	})
+}
+
+func (m *model) inRoom(layer, client int, back comesBack) {
+	life := &m.lives[layer]
+	m.tell(client, layer, api.EvTook, 0)
+	m.enter(layer+1, client, func(o api.Outcome) {
+		m.tell(client, layer, api.EvLeft, 0)
+		if len(life.line) == 0 {
+			life.inside--
+		} else {
+			m.at(m.now, life.line[0].takes)
+			life.line = slices.Delete(life.line, 0, 1)
+		}
+		back(o)
+	})
+}
+
 func oneOf(r *rand.Rand, numbers ...int) int { return numbers[r.Intn(len(numbers))] }
 
 func someLayer(r *rand.Rand, kind int) api.Layer {
@@ -247,6 +294,8 @@ func someLayer(r *rand.Rand, kind int) api.Layer {
 	case api.Breaker:
 		window := 1 + r.Intn(5)
 		return layerOf(kind, window, 1+r.Intn(window), oneOf(r, 1, 25, 33, 34, 50, 51, 66, 67, 100), r.Intn(6), 1+r.Intn(3))
+	case api.Room:
+		return layerOf(kind, 1+r.Intn(4), r.Intn(6))
 	}
 	return layerOf(kind)
 }
@@ -255,7 +304,7 @@ func someLayers(r *rand.Rand) []api.Layer {
 	var layers []api.Layer
 	retries := 0
 	for range r.Intn(api.MaxLayers + 1) {
-		kind := oneOf(r, api.Retry, api.Retry, api.Guard, api.Rate, api.Breaker, api.Breaker)
+		kind := oneOf(r, api.Retry, api.Retry, api.Guard, api.Rate, api.Breaker, api.Breaker, api.Room, api.Room)
 		if kind == api.Retry {
 			retries++
 		}
@@ -305,13 +354,13 @@ func TestRunIsAsTheModelSays(t *testing.T) {
 		layers, clients := someLayers(r), someClients(r)
 		got, e, at := Run(layers, clients)
 		if want := modelRun(layers, clients); e != api.OK || at != 0 || !sameReport(got, want) {
-			t.Fatalf("P4 to P10: %v\n%v\nerror %d at %d\n%s\n%s\nwant\n%s\n%s", layers, clients, e, at, outcomeTexts(got.Outcomes), eventTexts(got.Events), outcomeTexts(want.Outcomes), eventTexts(want.Events))
+			t.Fatalf("P4 to P11: %v\n%v\nerror %d at %d\n%s\n%s\nwant\n%s\n%s", layers, clients, e, at, outcomeTexts(got.Outcomes), eventTexts(got.Events), outcomeTexts(want.Outcomes), eventTexts(want.Events))
 		}
 		for _, event := range got.Events {
 			seen[event.What]++
 		}
 	}
-	for what := api.EvBegan; what <= api.EvClosed; what++ {
+	for what := api.EvBegan; what <= api.EvLeft; what++ {
 		if seen[what] < 500 {
 			t.Errorf("the inputs led to event %d only %d times", what, seen[what])
 		}

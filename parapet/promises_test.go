@@ -67,7 +67,7 @@ func TestEveryCallEndsAndNonePanics(t *testing.T) {
 
 // busyInputs: all kinds of turns, each kind of layer that is built, chains of several links, many entries of one time.
 func busyInputs() ([]api.Layer, []api.Client) {
-	layers := stack(layerOf(api.Retry, 3, 2, 2, 3), layerOf(api.Guard), layerOf(api.Breaker, 5, 3, 60, 2, 2), layerOf(api.Retry, 2, 1, 1, 1), layerOf(api.Rate, 1, 7))
+	layers := stack(layerOf(api.Retry, 3, 2, 2, 3), layerOf(api.Guard), layerOf(api.Breaker, 5, 3, 60, 2, 2), layerOf(api.Retry, 2, 1, 1, 1), layerOf(api.Rate, 1, 7), layerOf(api.Room, 3, 2))
 	turns := []api.Turn{fails(1, 1), fails(2, 0), blows(3, 1), fails(4, 2), fails(5, 1), final(6, 0)}
 	var clients []api.Client
 	for i := range api.MaxClients {
