@@ -209,18 +209,89 @@ func TestTaskThatHasEndedIsNotCancelled(t *testing.T) {
 
 func TestTaskBegunByATask(t *testing.T) {
 	a, d := New(), &diary{}
-	a.Begin(0, 2, func(task *Task) {
+	a.Begin(4, 2, func(task *Task) {
 		w := task.StartWait(4)
-		a.Begin(1, task.Now(), func(inner *Task) {
+		inner := task.Begin(func(inner *Task) {
 			d.note(inner, "begins")
 			inner.Sleep(4)
 			d.note(inner, w.Come())
 		})
+		if inner.Number() != 2 || inner.Client() != 4 {
+			t.Errorf("P12: the new task is %d of %d", inner.Number(), inner.Client())
+		}
 		d.note(task, causeText(w.End()))
 	})
 	a.Begin(0, 2, func(task *Task) { d.note(task, "begins") })
 	a.Run()
 	d.expect(t, "2.1 begins", "2.2 begins", "6.0 time over", "6.2 false")
+}
+
+// family begins task 0, in it 2 and 4, and in 2 the task 3; all of them wait from 2 on. At 5 task 1 cancels one of them.
+func family(d *diary, victim int) {
+	a, tasks := New(), map[int]*Task{}
+	waits := func(task *Task) {
+		tasks[task.Number()] = task
+		cause := task.StartWait(9).End()
+		d.note(task, causeText(cause))
+	}
+	a.Begin(0, 0, func(task *Task) {
+		task.Begin(func(inner *Task) {
+			inner.Sleep(1)
+			inner.Begin(waits)
+			waits(inner)
+		})
+		task.Sleep(2)
+		task.Begin(waits)
+		waits(task)
+	})
+	a.Begin(0, 5, func(task *Task) {
+		d.note(task, "cancels")
+		tasks[victim].Cancel()
+	})
+	a.Run()
+}
+
+func TestCancelReachesAllThatBeganInATask(t *testing.T) {
+	for _, c := range []struct {
+		victim int
+		want   []string
+	}{
+		{0, []string{"5.1 cancels", "5.0 cancelled", "5.2 cancelled", "5.3 cancelled", "5.4 cancelled"}},
+		{2, []string{"5.1 cancels", "5.2 cancelled", "5.3 cancelled", "11.0 time over", "11.4 time over"}},
+		{3, []string{"5.1 cancels", "5.3 cancelled", "10.2 time over", "11.0 time over", "11.4 time over"}},
+		{4, []string{"5.1 cancels", "5.4 cancelled", "10.2 time over", "10.3 time over", "11.0 time over"}},
+	} {
+		d := &diary{}
+		family(d, c.victim)
+		d.expect(t, c.want...)
+	}
+}
+
+func TestCancelReachesWhatBeganInATaskThatHasEnded(t *testing.T) {
+	a, d := New(), &diary{}
+	var middle, last *Task
+	top := a.Begin(0, 0, func(task *Task) {
+		middle = task.Begin(func(inner *Task) { last = inner.Begin(waiter(d, 9, nil)) })
+		task.Sleep(9)
+	})
+	a.Begin(0, 5, func(*Task) { top.Cancel() })
+	a.Run()
+	d.expect(t, "5.3 cancelled")
+	if !top.Cancelled() || middle.Cancelled() || !last.Cancelled() {
+		t.Errorf("P12: cancelled: the first %v, the second, which had ended, %v, the third %v", top.Cancelled(), middle.Cancelled(), last.Cancelled())
+	}
+}
+
+func TestTaskThatIsCancelledAheadOfItsBeginningInAnother(t *testing.T) {
+	a, d := New(), &diary{}
+	top := a.Begin(0, 0, func(task *Task) {
+		w := task.StartWait(9)
+		task.Begin(func(inner *Task) { d.note(inner, inner.Cancelled()) })
+		d.note(task, causeText(w.End()))
+	})
+	a.Begin(0, 0, func(*Task) { top.Cancel() })
+	a.Run()
+	d.expect(t, "0.2 true", "0.0 cancelled")
 }
 
 func TestAllTasksHaveEnded(t *testing.T) {

@@ -1,5 +1,10 @@
 package agenda
 
+import (
+	"cmp"
+	"slices"
+)
+
 // Cause: by what a wait ended.
 type Cause int
 
@@ -19,6 +24,7 @@ type Task struct {
 	number, client int
 	told           chan Cause
 	cancellable    *Wait
+	begun          []*Task // those that began in this one
 	cancelled      bool
 	ended          bool
 }
@@ -35,12 +41,38 @@ func (t *Task) Now() int { return t.agenda.now }
 // Cancelled tells whether the task was cancelled.
 func (t *Task) Cancelled() bool { return t.cancelled }
 
-// Cancel: the task goes on all the same, only a wait that can be cancelled ends by it. If its last one has ended, its cause is fixed, and this comes to nothing.
+// Begin puts a new task of the same client on the agenda for the present time: one that began in this one.
+func (t *Task) Begin(work func(*Task)) *Task {
+	inner := t.agenda.Begin(t.client, t.Now(), work)
+	t.begun = append(t.begun, inner)
+	return inner
+}
+
+// Cancel reaches all tasks that began in this one too, and in these, and so on. They go on all the same: only waits that can be cancelled end by it.
 func (t *Task) Cancel() {
-	if t.ended {
-		return
+	family := t.family()
+	for _, member := range family {
+		if !member.ended {
+			member.cancelled = true
+		}
 	}
-	t.cancelled = true
+	for _, member := range family {
+		member.cancelWait()
+	}
+}
+
+// family: the task and all that began in it, and in these, in the order of their numbers.
+func (t *Task) family() []*Task {
+	members := []*Task{t}
+	for i := 0; i < len(members); i++ {
+		members = append(members, members[i].begun...)
+	}
+	slices.SortFunc(members, func(a, b *Task) int { return cmp.Compare(a.number, b.number) })
+	return members
+}
+
+// cancelWait: if the task's last wait has ended, its cause is fixed, and this comes to nothing.
+func (t *Task) cancelWait() {
 	if t.cancellable != nil {
 		t.cancellable.fix(Cancelled)
 	}

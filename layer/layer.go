@@ -67,26 +67,40 @@ func newLayer(l api.Layer, c common) Layer {
 	case api.Room:
 		return &room{common: c, places: l.A, longest: l.B}
 	}
-	return &unbuilt{c}
+	// Of the kinds that there are, this one is left.
+	return &limit{common: c, longest: l.A}
 }
 
-// unbuilt stands where a kind of layer is not built yet.
-type unbuilt struct {
-	common
+// answer is what came back, so that it can be looked at, a panic too, and handed from task to task.
+type answer struct {
+	n     int
+	err   error
+	blown any
 }
 
-func (u *unbuilt) Enter(t *agenda.Task) (int, error) { return u.within.Enter(t) }
+// answerOf lets a task go on inwards, and catches what comes back.
+func answerOf(within Layer, t *agenda.Task) (a answer) {
+	defer func() { a.blown = recover() }()
+	a.n, a.err = within.Enter(t)
+	return a
+}
+
+// goOutwards lets what came back go on as it is.
+func (a answer) goOutwards() (int, error) {
+	if a.blown != nil {
+		panic(a.blown)
+	}
+	return a.n, a.err
+}
 
 // Call lets a task go through the layers, and tells as what it came back.
-func Call(outermost Layer, t *agenda.Task) (o api.Outcome) {
-	defer func() {
-		if blown := recover(); blown != nil {
-			o = api.Outcome{At: t.Now(), Kind: api.ByPanic, N: numberOf(blown)}
-		}
-	}()
-	n, err := outermost.Enter(t)
-	if err != nil {
-		return api.Outcome{At: t.Now(), Kind: api.ByError, Chain: fault.Chain(err)}
+func Call(outermost Layer, t *agenda.Task) api.Outcome {
+	a := answerOf(outermost, t)
+	switch {
+	case a.blown != nil:
+		return api.Outcome{At: t.Now(), Kind: api.ByPanic, N: numberOf(a.blown)}
+	case a.err != nil:
+		return api.Outcome{At: t.Now(), Kind: api.ByError, Chain: fault.Chain(a.err)}
 	}
-	return api.Outcome{At: t.Now(), Kind: api.ByValue, N: n}
+	return api.Outcome{At: t.Now(), Kind: api.ByValue, N: a.n}
 }

@@ -3,19 +3,19 @@ package parapet
 import (
 	"math/rand"
 	"reflect"
-	"slices"
 	"testing"
 
 	"parapet/api"
 )
 
-// model plays the document's words in one goroutine, without tasks, errors or panics: who enters a layer hands in a function that is called with what comes back.
+// model plays the document's words in one goroutine, without errors or panics: who enters a layer hands in a function that is called with what comes back.
 type model struct {
 	layers  []api.Layer
 	clients []api.Client
 	had     []int
 	now     int
 	agenda  []due
+	tasks   []*modelTask // by their numbers
 	lives   []modelLife
 	report  api.Report
 }
@@ -25,17 +25,26 @@ type due struct {
 	goOn func()
 }
 
+// modelTask knows the task in which it began, and what of its waits can be cancelled.
+type modelTask struct {
+	client           int
+	beganIn          *modelTask
+	wait             *modelWait
+	cancelled, ended bool
+}
+
+// modelWait has no cause, as long as it goes on.
+type modelWait struct {
+	cause string
+	goOn  func(cause string)
+}
+
 // modelLife: what a layer remembers.
 type modelLife struct {
 	admitted []int // of a Rate: when it let somebody in
 	periods  []modelPeriod
-	inside   int            // of a Room: the places that are taken
-	line     []*modelWaiter // of a Room
-}
-
-// modelWaiter is one of the line of a Room.
-type modelWaiter struct {
-	takes func()
+	inside   int          // of a Room: the places that are taken
+	waits    []*modelWait // of a Room: all that ever began
 }
 
 // modelPeriod of a Breaker, the last one is the present one. What it counted is told as an outcome's kind.
@@ -55,40 +64,81 @@ func modelRun(layers []api.Layer, clients []api.Client) api.Report {
 		m.lives[i].periods = []modelPeriod{{name: "closed"}}
 	}
 	for i, c := range clients {
+		t := m.newTask(i, nil)
 		m.at(c.Start, func() {
-			m.enter(0, i, func(o api.Outcome) {
+			m.enter(0, t, func(o api.Outcome) {
 				o.At = m.now
 				m.report.Outcomes[i] = o
 			})
 		})
 	}
 	for len(m.agenda) > 0 {
-		least := 0
-		for i, d := range m.agenda {
-			if d.at < m.agenda[least].at {
-				least = i
-			}
-		}
-		d := m.agenda[least]
-		m.agenda = append(m.agenda[:least:least], m.agenda[least+1:]...)
-		m.now = d.at
-		d.goOn()
+		m.takeOneOff()
 	}
 	return m.report
 }
 
-func (m *model) at(time int, goOn func()) { m.agenda = append(m.agenda, due{time, goOn}) }
-
-func (m *model) wait(span int, goOn func()) {
-	if span == 0 {
-		goOn()
-		return
+func (m *model) takeOneOff() {
+	least := 0
+	for i, d := range m.agenda {
+		if d.at < m.agenda[least].at {
+			least = i
+		}
 	}
-	m.at(m.now+span, goOn)
+	d := m.agenda[least]
+	m.agenda = append(m.agenda[:least:least], m.agenda[least+1:]...)
+	m.now = d.at
+	d.goOn()
 }
 
-func (m *model) tell(client, layer, what, n int) {
-	m.report.Events = append(m.report.Events, api.Event{At: m.now, Client: client, Layer: layer, What: what, N: n})
+func (m *model) at(time int, goOn func()) { m.agenda = append(m.agenda, due{time, goOn}) }
+
+func (m *model) newTask(client int, beganIn *modelTask) *modelTask {
+	t := &modelTask{client: client, beganIn: beganIn}
+	m.tasks = append(m.tasks, t)
+	return t
+}
+
+// waits lets a task wait, so that it can be cancelled.
+func (m *model) waits(t *modelTask, span int, goOn func(cause string)) *modelWait {
+	w := &modelWait{goOn: goOn}
+	t.wait = w
+	m.at(m.now+span, func() {
+		if w.cause == "" {
+			w.cause = "over"
+			w.goOn("over")
+		}
+	})
+	return w
+}
+
+func (m *model) fix(w *modelWait, cause string) {
+	if w.cause == "" {
+		w.cause = cause
+		m.at(m.now, func() { w.goOn(cause) })
+	}
+}
+
+// cancel: each task that has top among those it goes back to.
+func (m *model) cancel(top *modelTask) {
+	var reached []*modelTask
+	for _, t := range m.tasks {
+		for back := t; back != nil; back = back.beganIn {
+			if back == top && !t.ended {
+				t.cancelled = true
+				reached = append(reached, t)
+			}
+		}
+	}
+	for _, t := range reached {
+		if t.wait != nil {
+			m.fix(t.wait, "cancelled")
+		}
+	}
+}
+
+func (m *model) tell(t *modelTask, layer, what, n int) {
+	m.report.Events = append(m.report.Events, api.Event{At: m.now, Client: t.client, Layer: layer, What: what, N: n})
 }
 
 func anError(kind, layer, n int, behind ...api.Link) api.Outcome {
@@ -102,34 +152,36 @@ func lastLink(o api.Outcome) int {
 	return o.Chain[len(o.Chain)-1].Kind
 }
 
-func (m *model) enter(layer, client int, back comesBack) {
+func (m *model) enter(layer int, t *modelTask, back comesBack) {
 	if layer == len(m.layers) {
-		m.backend(client, back)
+		m.backend(t, back)
 		return
 	}
 	switch m.layers[layer].Kind {
 	case api.Retry:
-		m.retry(layer, client, 1, m.layers[layer].B, back)
+		m.retry(layer, t, 1, m.layers[layer].B, back)
 	case api.Guard:
-		m.guard(layer, client, back)
+		m.guard(layer, t, back)
 	case api.Rate:
-		m.rate(layer, client, back)
+		m.rate(layer, t, back)
 	case api.Breaker:
-		m.breaker(layer, client, back)
+		m.breaker(layer, t, back)
 	case api.Room:
-		m.room(layer, client, back)
+		m.room(layer, t, back)
+	case api.Limit:
+		m.limit(layer, t, back)
 	}
 }
 
-func (m *model) backend(client int, back comesBack) {
-	turn, number := value(0, 0), m.had[client]
-	if turns := m.clients[client].Turns; number < len(turns) {
+func (m *model) backend(t *modelTask, back comesBack) {
+	turn, number := value(0, 0), m.had[t.client]
+	if turns := m.clients[t.client].Turns; number < len(turns) {
 		turn = turns[number]
 	}
-	m.had[client]++
-	m.tell(client, -1, api.EvBegan, number)
-	m.wait(turn.Takes, func() {
-		m.tell(client, -1, api.EvEnded, number)
+	m.had[t.client]++
+	m.tell(t, -1, api.EvBegan, number)
+	ends := func() {
+		m.tell(t, -1, api.EvEnded, number)
 		switch turn.Kind {
 		case api.TurnValue:
 			back(api.Outcome{Kind: api.ByValue, N: turn.N})
@@ -140,90 +192,115 @@ func (m *model) backend(client int, back comesBack) {
 		case api.TurnPanic:
 			back(api.Outcome{Kind: api.ByPanic, N: turn.N})
 		}
-	})
+	}
+	if turn.Takes == 0 {
+		ends()
+		return
+	}
+	m.at(m.now+turn.Takes, ends)
 }
 
-func (m *model) retry(layer, client, attempt, grown int, back comesBack) {
+func (m *model) retry(layer int, t *modelTask, attempt, grown int, back comesBack) {
 	l := m.layers[layer]
-	m.enter(layer+1, client, func(o api.Outcome) {
-		if o.Kind != api.ByError || lastLink(o) == api.LinkFatal {
-			back(o)
+	next := func(cause string) {
+		if cause == "cancelled" {
+			m.drop(layer, t, back)
 			return
 		}
-		if attempt == l.A {
-			m.tell(client, layer, api.EvGaveUp, 0)
+		m.retry(layer, t, attempt+1, grown*l.C, back)
+	}
+	m.enter(layer+1, t, func(o api.Outcome) {
+		last, pause := lastLink(o), min(grown, l.D)
+		switch {
+		case o.Kind != api.ByError || last == api.LinkFatal || last == api.LinkCancelled:
+			back(o)
+			return
+		case attempt == l.A:
+			m.tell(t, layer, api.EvGaveUp, 0)
 			back(anError(api.LinkGaveUp, layer, 0, o.Chain...))
 			return
 		}
-		m.tell(client, layer, api.EvPaused, min(grown, l.D))
-		m.wait(min(grown, l.D), func() { m.retry(layer, client, attempt+1, grown*l.C, back) })
+		m.tell(t, layer, api.EvPaused, pause)
+		switch {
+		case t.cancelled:
+			next("cancelled")
+		case pause == 0:
+			next("over")
+		default:
+			m.waits(t, pause, next)
+		}
 	})
 }
 
-func (m *model) guard(layer, client int, back comesBack) {
-	m.enter(layer+1, client, func(o api.Outcome) {
+func (m *model) guard(layer int, t *modelTask, back comesBack) {
+	m.enter(layer+1, t, func(o api.Outcome) {
 		if o.Kind == api.ByPanic {
-			m.tell(client, layer, api.EvCaught, o.N)
+			m.tell(t, layer, api.EvCaught, o.N)
 			o = anError(api.LinkCaught, layer, o.N)
 		}
 		back(o)
 	})
 }
 
-func (m *model) refuse(layer, client int, back comesBack) {
-	m.tell(client, layer, api.EvRefused, 0)
+func (m *model) refuse(layer int, t *modelTask, back comesBack) {
+	m.tell(t, layer, api.EvRefused, 0)
 	back(anError(api.LinkRefused, layer, 0))
 }
 
-func (m *model) rate(layer, client int, back comesBack) {
+func (m *model) drop(layer int, t *modelTask, back comesBack) {
+	m.tell(t, layer, api.EvDropped, 0)
+	back(anError(api.LinkCancelled, layer, 0))
+}
+
+func (m *model) rate(layer int, t *modelTask, back comesBack) {
 	l, life := m.layers[layer], &m.lives[layer]
 	next := -1 << 40
 	for _, at := range life.admitted {
 		next = max(next, at) + l.A
 	}
 	if next > m.now+(l.B-1)*l.A {
-		m.refuse(layer, client, back)
+		m.refuse(layer, t, back)
 		return
 	}
 	life.admitted = append(life.admitted, m.now)
-	m.tell(client, layer, api.EvAdmitted, 0)
-	m.enter(layer+1, client, back)
+	m.tell(t, layer, api.EvAdmitted, 0)
+	m.enter(layer+1, t, back)
 }
 
 // become begins a period of a Breaker.
-func (m *model) become(layer, client int, name string, what int) {
+func (m *model) become(layer int, t *modelTask, name string, what int) {
 	m.lives[layer].periods = append(m.lives[layer].periods, modelPeriod{name: name, began: m.now})
-	m.tell(client, layer, what, 0)
+	m.tell(t, layer, what, 0)
 }
 
-func (m *model) breaker(layer, client int, back comesBack) {
+func (m *model) breaker(layer int, t *modelTask, back comesBack) {
 	l, life := m.layers[layer], &m.lives[layer]
 	present := func() *modelPeriod { return &life.periods[len(life.periods)-1] }
 	if p := present(); p.name == "open" {
 		if m.now < p.began+l.D {
-			m.refuse(layer, client, back)
+			m.refuse(layer, t, back)
 			return
 		}
-		m.become(layer, client, "half", api.EvHalved)
+		m.become(layer, t, "half", api.EvHalved)
 	}
 	if p := present(); p.name == "half" {
 		if p.probes == l.E {
-			m.refuse(layer, client, back)
+			m.refuse(layer, t, back)
 			return
 		}
 		p.probes++
 	}
-	m.tell(client, layer, api.EvPassed, 0)
+	m.tell(t, layer, api.EvPassed, 0)
 	period := len(life.periods)
-	m.enter(layer+1, client, func(o api.Outcome) {
+	m.enter(layer+1, t, func(o api.Outcome) {
 		if len(life.periods) == period {
-			m.breakerCounts(layer, client, present(), o)
+			m.breakerCounts(layer, t, present(), o)
 		}
 		back(o)
 	})
 }
 
-func (m *model) breakerCounts(layer, client int, p *modelPeriod, o api.Outcome) {
+func (m *model) breakerCounts(layer int, t *modelTask, p *modelPeriod, o api.Outcome) {
 	l := m.layers[layer]
 	if last := lastLink(o); last == api.LinkRefused || last == api.LinkCancelled {
 		p.probes--
@@ -240,46 +317,85 @@ func (m *model) breakerCounts(layer, client int, p *modelPeriod, o api.Outcome) 
 	bad := failures*100 >= l.C*total
 	switch {
 	case p.name == "closed" && total >= l.B && bad, p.name == "half" && total == l.E && bad:
-		m.become(layer, client, "open", api.EvOpened)
+		m.become(layer, t, "open", api.EvOpened)
 	case p.name == "half" && total == l.E:
-		m.become(layer, client, "closed", api.EvClosed)
+		m.become(layer, t, "closed", api.EvClosed)
 	}
 }
 
-func (m *model) room(layer, client int, back comesBack) {
+func (m *model) room(layer int, t *modelTask, back comesBack) {
 	l, life := m.layers[layer], &m.lives[layer]
 	if life.inside < l.A {
 		life.inside++
-		m.inRoom(layer, client, back)
+		m.inRoom(layer, t, back)
 		return
 	}
 	if l.B == 0 {
-		m.refuse(layer, client, back)
+		m.refuse(layer, t, back)
 		return
 	}
-	m.tell(client, layer, api.EvWaited, 0)
-	w := &modelWaiter{func() { m.inRoom(layer, client, back) }}
-	life.line = append(life.line, w)
-	m.at(m.now+l.B, func() {
-		if i := slices.Index(life.line, w); i >= 0 {
-			life.line = slices.Delete(life.line, i, i+1)
-			m.refuse(layer, client, back)
+	m.tell(t, layer, api.EvWaited, 0)
+	if t.cancelled {
+		m.drop(layer, t, back)
+		return
+	}
+	life.waits = append(life.waits, m.waits(t, l.B, func(cause string) {
+		switch cause {
+		case "came":
+			m.inRoom(layer, t, back)
+		case "over":
+			m.refuse(layer, t, back)
+		case "cancelled":
+			m.drop(layer, t, back)
 		}
+	}))
+}
+
+func (m *model) inRoom(layer int, t *modelTask, back comesBack) {
+	m.tell(t, layer, api.EvTook, 0)
+	m.enter(layer+1, t, func(o api.Outcome) {
+		m.tell(t, layer, api.EvLeft, 0)
+		m.placeIsFree(&m.lives[layer])
+		back(o)
 	})
 }
 
-func (m *model) inRoom(layer, client int, back comesBack) {
-	life := &m.lives[layer]
-	m.tell(client, layer, api.EvTook, 0)
-	m.enter(layer+1, client, func(o api.Outcome) {
-		m.tell(client, layer, api.EvLeft, 0)
-		if len(life.line) == 0 {
-			life.inside--
-		} else {
-			m.at(m.now, life.line[0].takes)
-			life.line = slices.Delete(life.line, 0, 1)
+func (m *model) placeIsFree(life *modelLife) {
+	for _, w := range life.waits {
+		if w.cause == "" {
+			m.fix(w, "came")
+			return
 		}
-		back(o)
+	}
+	life.inside--
+}
+
+func (m *model) limit(layer int, t *modelTask, back comesBack) {
+	if t.cancelled {
+		m.drop(layer, t, back)
+		return
+	}
+	var inner *modelTask
+	var came api.Outcome
+	wait := m.waits(t, m.layers[layer].A, func(cause string) {
+		switch cause {
+		case "came":
+			back(came)
+		case "over":
+			m.tell(t, layer, api.EvCut, 0)
+			m.cancel(inner)
+			back(anError(api.LinkLate, layer, 0))
+		case "cancelled":
+			m.drop(layer, t, back)
+		}
+	})
+	inner = m.newTask(t.client, t)
+	m.at(m.now, func() {
+		m.enter(layer+1, inner, func(o api.Outcome) {
+			inner.ended = true
+			came = o
+			m.fix(wait, "came")
+		})
 	})
 }
 
@@ -296,15 +412,22 @@ func someLayer(r *rand.Rand, kind int) api.Layer {
 		return layerOf(kind, window, 1+r.Intn(window), oneOf(r, 1, 25, 33, 34, 50, 51, 66, 67, 100), r.Intn(6), 1+r.Intn(3))
 	case api.Room:
 		return layerOf(kind, 1+r.Intn(4), r.Intn(6))
+	case api.Limit:
+		return layerOf(kind, 1+r.Intn(7))
 	}
 	return layerOf(kind)
 }
 
+// someLayers are now of all kinds, now only of those in which a task waits, so that more of that happens.
 func someLayers(r *rand.Rand) []api.Layer {
 	var layers []api.Layer
+	kinds := []int{api.Retry, api.Retry, api.Guard, api.Rate, api.Breaker, api.Breaker, api.Room, api.Room, api.Limit, api.Limit}
+	if r.Intn(3) == 0 {
+		kinds = []int{api.Retry, api.Room, api.Limit}
+	}
 	retries := 0
 	for range r.Intn(api.MaxLayers + 1) {
-		kind := oneOf(r, api.Retry, api.Retry, api.Guard, api.Rate, api.Breaker, api.Breaker, api.Room, api.Room)
+		kind := oneOf(r, kinds...)
 		if kind == api.Retry {
 			retries++
 		}
@@ -322,7 +445,7 @@ func someClients(r *rand.Rand) []api.Client {
 		c := clientAt(r.Intn(12))
 		for range r.Intn(api.MaxTurns + 1) {
 			kind := oneOf(r, api.TurnValue, api.TurnError, api.TurnError, api.TurnError, api.TurnError, api.TurnFinal, api.TurnPanic)
-			c.Turns = append(c.Turns, api.Turn{Kind: kind, N: r.Intn(9) - 4, Takes: r.Intn(4)})
+			c.Turns = append(c.Turns, api.Turn{Kind: kind, N: r.Intn(9) - 4, Takes: r.Intn(oneOf(r, 1, 4, 9))})
 		}
 		clients = append(clients, c)
 	}
@@ -332,7 +455,7 @@ func someClients(r *rand.Rand) []api.Client {
 // lookAtLayers runs random inputs, and looks at each layer of one kind and the events it told.
 func lookAtLayers(seed int64, kind int, look func(l api.Layer, own []api.Event)) {
 	r := rand.New(rand.NewSource(seed))
-	for range 2000 {
+	for range 4000 {
 		layers, clients := someLayers(r), someClients(r)
 		report, _, _ := Run(layers, clients)
 		for number, l := range layers {
@@ -350,17 +473,17 @@ func sameReport(a, b api.Report) bool {
 func TestRunIsAsTheModelSays(t *testing.T) {
 	r := rand.New(rand.NewSource(1))
 	seen := map[int]int{}
-	for range 10000 {
+	for range 20000 {
 		layers, clients := someLayers(r), someClients(r)
 		got, e, at := Run(layers, clients)
 		if want := modelRun(layers, clients); e != api.OK || at != 0 || !sameReport(got, want) {
-			t.Fatalf("P4 to P11: %v\n%v\nerror %d at %d\n%s\n%s\nwant\n%s\n%s", layers, clients, e, at, outcomeTexts(got.Outcomes), eventTexts(got.Events), outcomeTexts(want.Outcomes), eventTexts(want.Events))
+			t.Fatalf("P4 to P12: %v\n%v\nerror %d at %d\n%s\n%s\nwant\n%s\n%s", layers, clients, e, at, outcomeTexts(got.Outcomes), eventTexts(got.Events), outcomeTexts(want.Outcomes), eventTexts(want.Events))
 		}
 		for _, event := range got.Events {
 			seen[event.What]++
 		}
 	}
-	for what := api.EvBegan; what <= api.EvLeft; what++ {
+	for what := api.EvBegan; what <= api.EvDropped; what++ {
 		if seen[what] < 500 {
 			t.Errorf("the inputs led to event %d only %d times", what, seen[what])
 		}

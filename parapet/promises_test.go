@@ -4,6 +4,7 @@ import (
 	"math/rand"
 	"reflect"
 	"runtime"
+	"slices"
 	"sync"
 	"testing"
 	"time"
@@ -65,17 +66,31 @@ func TestEveryCallEndsAndNonePanics(t *testing.T) {
 	}
 }
 
-// busyInputs: all kinds of turns, each kind of layer that is built, chains of several links, many entries of one time.
+// busyInputs: all kinds of turns and of layers, chains of several links, many entries of one time, tasks that are cancelled and go on.
 func busyInputs() ([]api.Layer, []api.Client) {
-	layers := stack(layerOf(api.Retry, 3, 2, 2, 3), layerOf(api.Guard), layerOf(api.Breaker, 5, 3, 60, 2, 2), layerOf(api.Retry, 2, 1, 1, 1), layerOf(api.Rate, 1, 7), layerOf(api.Room, 3, 2))
-	turns := []api.Turn{fails(1, 1), fails(2, 0), blows(3, 1), fails(4, 2), fails(5, 1), final(6, 0)}
+	layers := stack(layerOf(api.Retry, 3, 2, 2, 3), layerOf(api.Guard), layerOf(api.Breaker, 9, 9, 60, 2, 2), layerOf(api.Limit, 1), layerOf(api.Rate, 1, 8), layerOf(api.Room, 1, 2))
+	turns := []api.Turn{fails(1, 1), fails(2, 0), blows(3, 0), value(4, 0), fails(5, 1), final(6, 0)}
 	var clients []api.Client
 	for i := range api.MaxClients {
 		clients = append(clients, clientAt(i%3, turns[i%len(turns):]...))
 	}
 	clients[8] = clientAt(0, fails(1, 0), fails(2, 0), fails(3, 0), fails(4, 0), fails(5, 0), fails(6, 0))
 	clients[7] = clients[8]
+	clients[6].Turns = append([]api.Turn{value(7, 30)}, clients[6].Turns...)
 	return layers, clients
+}
+
+func TestBusyInputsAreBusy(t *testing.T) {
+	layers, clients := busyInputs()
+	report, _, _ := Run(layers, clients)
+	for what := api.EvBegan; what <= api.EvDropped; what++ {
+		if len(timesOf(report.Events, what)) == 0 {
+			t.Errorf("%s is not among the events:\n%s", eventName(what), eventTexts(report.Events))
+		}
+	}
+	if last := report.Events[len(report.Events)-1]; last.At < 30 {
+		t.Errorf("no task goes on behind the last outcome: %s", eventText(last))
+	}
 }
 
 func TestAnswerDependsOnTheArgumentsAlone(t *testing.T) {
@@ -243,21 +258,51 @@ func TestLaterStartsMoveEverything(t *testing.T) {
 	}
 }
 
+// TestNoPanicComesOutThroughAGuard: not to the client, and not to a Guard further out, so that only the innermost one has something to catch.
 func TestNoPanicComesOutThroughAGuard(t *testing.T) {
 	r := rand.New(rand.NewSource(6))
-	caught := 0
-	for range 1000 {
+	caught, caughtOfAnotherTask, blown := 0, 0, 0
+	for range 4000 {
 		layers, clients := someLayers(r), someClients(r)
-		layers = append(stack(layerOf(api.Guard)), layers[:min(len(layers), api.MaxLayers-1)]...)
 		report, _, _ := Run(layers, clients)
+		innermost := innermostGuard(layers)
 		for i, o := range report.Outcomes {
-			if o.Kind == api.ByPanic {
+			if o.Kind == api.ByPanic && innermost >= 0 {
 				t.Fatalf("P13: %v, %v: client %d: %v", layers, clients, i, o)
 			}
+			if o.Kind == api.ByPanic {
+				blown++
+			}
 		}
-		caught += len(timesOf(eventsOf(report.Events, 0), api.EvCaught))
+		for _, e := range report.Events {
+			if e.What != api.EvCaught {
+				continue
+			}
+			if e.Layer != innermost {
+				t.Fatalf("P13: %v, %v: %s", layers, clients, eventText(e))
+			}
+			caught++
+			if hasKind(layers[innermost:], api.Limit) {
+				caughtOfAnotherTask++
+			}
+		}
 	}
-	if caught < 100 {
-		t.Errorf("only %d panics were caught", caught)
+	if caught < 500 || caughtOfAnotherTask < 50 || blown < 500 {
+		t.Errorf("only %d panics were caught, %d of them from within a Limit, and %d were not", caught, caughtOfAnotherTask, blown)
 	}
+}
+
+// innermostGuard: its number, or -1.
+func innermostGuard(layers []api.Layer) int {
+	innermost := -1
+	for number, l := range layers {
+		if l.Kind == api.Guard {
+			innermost = number
+		}
+	}
+	return innermost
+}
+
+func hasKind(layers []api.Layer, kind int) bool {
+	return slices.ContainsFunc(layers, func(l api.Layer) bool { return l.Kind == kind })
 }

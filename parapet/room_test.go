@@ -258,62 +258,76 @@ func TestRoomsWithinRooms(t *testing.T) {
 }
 
 func TestNeverMoreInARoomThanItsPlaces(t *testing.T) {
-	full, waited := 0, 0
+	full, waited, twice := 0, 0, 0
 	lookAtLayers(7, api.Room, func(l api.Layer, own []api.Event) {
-		inside := map[int]int{}
+		// A client whose first task was cut may be in the Room with that one still, and with a new one.
+		inside, places := 0, map[int]int{}
 		for _, e := range own {
 			switch e.What {
 			case api.EvTook:
-				inside[e.Client]++
+				inside++
+				places[e.Client]++
 			case api.EvLeft:
-				delete(inside, e.Client)
+				inside--
+				places[e.Client]--
 			case api.EvWaited:
 				waited++
 			}
-			if len(inside) > l.A || inside[e.Client] > 1 {
-				t.Fatalf("P13: %v: %v are in it behind %s of\n%s", l, inside, eventText(e), eventTexts(own))
+			if inside > l.A || places[e.Client] < 0 {
+				t.Fatalf("P13: %v: %d are in it behind %s of\n%s", l, inside, eventText(e), eventTexts(own))
 			}
-			if len(inside) == l.A {
+			if inside == l.A {
 				full++
 			}
+			if places[e.Client] > 1 {
+				twice++
+			}
 		}
-		if len(inside) > 0 {
-			t.Fatalf("P11: %v: %v are in it in the end:\n%s", l, inside, eventTexts(own))
+		if inside > 0 {
+			t.Fatalf("P11: %v: %v are in it in the end:\n%s", l, places, eventTexts(own))
 		}
 	})
-	if full < 500 || waited < 500 {
-		t.Errorf("only %d times was a Room full, %d times was there a wait", full, waited)
+	if full < 500 || waited < 500 || twice < 20 {
+		t.Errorf("only %d times was a Room full, %d times was there a wait, %d times had a client two places", full, waited, twice)
 	}
 }
 
-// TestWaitsInARoomAreAnswered: each Waited is followed by one Took or Refused of the same client, the latter just when its time is over.
+// TestWaitsInARoomAreAnswered: each Waited is followed by one Took, Refused or Dropped of the same client, Refused just when its time is over. Ahead of that the client may give a place back that it had by a task that was cut.
 func TestWaitsInARoomAreAnswered(t *testing.T) {
-	took, refused := 0, 0
+	answers := map[int]int{}
 	lookAtLayers(8, api.Room, func(l api.Layer, own []api.Event) {
 		since := map[int]int{}
 		for _, e := range own {
 			began, waits := since[e.Client]
-			switch {
-			case e.What == api.EvWaited:
-				if waits || l.B == 0 {
-					t.Fatalf("P11: %v: %s in\n%s", l, eventText(e), eventTexts(own))
-				}
-				since[e.Client] = e.At
-			case waits && e.What == api.EvTook && e.At <= began+l.B:
-				took++
-				delete(since, e.Client)
-			case waits && e.What == api.EvRefused && e.At == began+l.B:
-				refused++
-				delete(since, e.Client)
-			case waits || e.What == api.EvRefused && l.B > 0:
+			right := true
+			switch e.What {
+			case api.EvLeft:
+				continue
+			case api.EvWaited:
+				right = !waits && l.B > 0
+			case api.EvTook:
+				right = !waits || e.At <= began+l.B
+			case api.EvRefused:
+				right = waits && e.At == began+l.B || !waits && l.B == 0
+			case api.EvDropped:
+				right = waits && e.At <= began+l.B
+			}
+			if !right {
 				t.Fatalf("P11: %v: %s in\n%s", l, eventText(e), eventTexts(own))
+			}
+			if waits {
+				answers[e.What]++
+				delete(since, e.Client)
+			}
+			if e.What == api.EvWaited {
+				since[e.Client] = e.At
 			}
 		}
 		if len(since) > 0 {
 			t.Fatalf("P11: %v: %v wait in the end:\n%s", l, since, eventTexts(own))
 		}
 	})
-	if took < 100 || refused < 100 {
-		t.Errorf("only %d waits ended by a place, %d by their time", took, refused)
+	if answers[api.EvTook] < 100 || answers[api.EvRefused] < 100 || answers[api.EvDropped] < 100 {
+		t.Errorf("too few waits ended by each cause: %v", answers)
 	}
 }
